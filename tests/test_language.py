@@ -83,6 +83,17 @@ def drawn_from(source):
     return told
 
 
+def methods_and_values(source):
+    """The names of a file's methods, and those of the values that are given to objects."""
+    methods, values = set(), set()
+    for node in ast.walk(ast.parse(source)):
+        if isinstance(node, ast.ClassDef):
+            methods.update(inner.name for inner in node.body if isinstance(inner, ast.FunctionDef))
+        if isinstance(node, ast.Attribute) and isinstance(node.ctx, ast.Store):
+            values.add(node.attr)
+    return methods, values
+
+
 class TestPackage(unittest.TestCase):
     def test_files(self):
         self.assertIn("__init__.py", sources())
@@ -106,6 +117,12 @@ class TestPackage(unittest.TestCase):
             self.assertTrue(free, waiting)
             for name in free:
                 del waiting[name]
+
+    def test_no_name_is_a_method_and_a_value(self):
+        told = [methods_and_values(source) for source in sources().values()]
+        methods = set().union(*[names for names, values in told])
+        values = set().union(*[values for names, values in told])
+        self.assertEqual(methods & values, set())
 
 
 class TestTheLook(unittest.TestCase):

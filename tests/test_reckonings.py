@@ -82,7 +82,8 @@ class TestIsReckoning(unittest.TestCase):
 
     def test_a_list_in_the_place_of_a_tuple(self):
         self.none(["num", 1], ["take", "a"], ["add", NUM, NUM], ["pick", NUM, NUM, NUM])
-        self.none(("add", ["num", 1], NUM), ("add", NUM, ["num", 1]), ("add", [NUM, NUM]), ("pick", NUM, NUM, list(NUM)))
+        self.none(("add", ["num", 1], NUM), ("add", NUM, ["num", 1]), ("add", [NUM, NUM]))
+        self.none(("pick", NUM, NUM, list(NUM)))
         self.none(("less", NUM, ("times", NUM, ("add", ["take", "a"], NUM))))
 
     def test_a_word_that_is_none(self):

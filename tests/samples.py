@@ -4,6 +4,8 @@ import random
 
 BOUND = 10 ** 9
 NAMES = ("a", "b", "cc", "end", "part", "box", "add", "abcdefgh", "set", "when", "take", "else", "num")
+NUMBERS = (0, 0, 1, 1, 2, 3, -1, 7, 8, 9, 12, -40, BOUND, -BOUND, BOUND - 1)
+SORTS = ("plain", "plain", "part", "give", "when", "each", "each")
 ONE = ("num", 1)
 
 # Each sort of line, key, hand, change and reckoning stands here.
@@ -146,15 +148,19 @@ def as_holed(thing):
 class Maker:
     """Makes parts and houses of all sorts within the bounds; the same ones of the same start."""
 
-    def __init__(self, start):
+    def __init__(self, start, pool=NAMES, numbers=NUMBERS, sorts=SORTS, most_lines=30):
         self.random = random.Random(start)
+        self.pool = pool
+        self.numbers = numbers
+        self.sorts = sorts
+        self.most_lines = most_lines
         self.room = 0
 
     def names(self, most):
-        return self.random.sample(NAMES, self.random.randint(0, most))
+        return self.random.sample(self.pool, self.random.randint(0, most))
 
     def number(self):
-        return self.random.choice((0, 0, 1, 1, 2, 3, -1, 7, 8, 9, 12, -40, BOUND, -BOUND, BOUND - 1))
+        return self.random.choice(self.numbers)
 
     def leaf(self, boxes, turns):
         sort = self.random.choice(("num", "num", "take", "down", "box", "turn"))
@@ -163,7 +169,7 @@ class Maker:
         if sort == "turn" and turns:
             return ("turn", self.random.choice(turns))
         if sort in ("take", "down"):
-            return (sort, self.random.choice(NAMES))
+            return (sort, self.random.choice(self.pool))
         return ("num", self.number())
 
     def reckoning(self, boxes, turns, deep=2):
@@ -193,36 +199,36 @@ class Maker:
         return tuple(told)
 
     def line(self, boxes, parts, turns, deep):
-        sort = self.random.choice(("plain", "plain", "part", "give", "when", "each", "each"))
+        sort = self.random.choice(self.sorts)
         if sort == "when":
             return (sort, self.reckoning(boxes, turns), self.lines(boxes, parts, turns, deep),
                     self.lines(boxes, parts, turns, deep))
         if sort == "each" and len(turns) < 2:
-            name = self.random.choice(NAMES[:3])
+            name = self.random.choice(self.pool[:3])
             return (sort, name, self.reckoning(boxes, turns), self.lines(boxes, parts, turns + (name,), deep))
         key = self.key(boxes, turns)
         if sort == "part" and parts:
             return (sort, key, self.random.choice(parts), self.pairs(boxes, turns))
         if sort == "give":
-            return (sort, key, self.random.choice(NAMES), self.reckoning(boxes, turns),
+            return (sort, key, self.random.choice(self.pool), self.reckoning(boxes, turns),
                     self.lines(boxes, parts, turns, deep))
         hands = tuple(self.hand(event, boxes, turns) for event in self.names(2))
-        return ("plain", key, self.random.choice(NAMES), self.pairs(boxes, turns), hands,
+        return ("plain", key, self.random.choice(self.pool), self.pairs(boxes, turns), hands,
                 self.lines(boxes, parts, turns, deep))
 
     def part(self, name, parts):
         boxes = self.names(4)
-        self.room = 30
+        self.room = self.most_lines
         return (name, tuple((box, self.number()) for box in boxes), self.pairs(boxes, (), 4),
                 self.lines(boxes, parts))
 
     def house(self):
-        names = self.random.sample(NAMES, self.random.randint(1, 6))
+        names = self.random.sample(self.pool, self.random.randint(1, 6))
         return tuple(self.part(name, names[place + 1:]) for place, name in enumerate(names))
 
     def answers(self):
         told = {}
         for sort in ("take", "box", "down"):
-            for name in self.names(len(NAMES)):
+            for name in self.names(len(self.pool)):
                 told[(sort, name)] = self.number()
         return told

@@ -2,6 +2,8 @@ import copy
 import unittest
 
 import samples
+from building import box, draw, each, give, num, plain, want, when
+from otherway import drawn_by
 from samples import BOUND, ONE, swapped
 from viewwood.pieces import drawn, lets_piece
 
@@ -17,38 +19,6 @@ def part(*lines, works=()):
     return ("p", tuple((name, place) for place, name in enumerate(NAMES[:4])), works, lines)
 
 
-def plain(key=None, tag="t", sets=(), hands=(), lines=()):
-    return ("plain", key, tag, sets, hands, lines)
-
-
-def draw(key=None, name="q", gives=()):
-    return ("part", key, name, gives)
-
-
-def give(key=None, name="g", number=ONE, lines=()):
-    return ("give", key, name, number, lines)
-
-
-def when(number, first=(), second=()):
-    return ("when", number, first, second)
-
-
-def each(name, number, *lines):
-    return ("each", name, number, lines)
-
-
-def num(number):
-    return ("num", number)
-
-
-def box(name):
-    return ("box", name)
-
-
-def want(spot, tag="t", sets=(), hands=(), row=()):
-    return ("plain", spot, tag, sets, hands, row)
-
-
 def row_of(whole, answers=None):
     return drawn(whole, answers or {})[1]
 
@@ -59,62 +29,6 @@ def keys_of(row):
 
 def reads_of(whole, answers=None):
     return drawn(whole, answers or {})[0]
-
-
-# A second drawing of parts, another way: lines are laid out flat, then spots are counted by looking back.
-def number_by(reckoning, answers, turns, asked):
-    word, rest = reckoning[0], reckoning[1:]
-    if word == "num":
-        return rest[0]
-    if word == "turn":
-        return dict(turns)[rest[0]]
-    if word in ("take", "box", "down"):
-        asked.add(reckoning)
-        return answers.get(reckoning, 0)
-    if word == "pick":
-        return number_by(rest[1] if number_by(rest[0], answers, turns, asked) else rest[2], answers, turns, asked)
-    one, other = [number_by(inner, answers, turns, asked) for inner in rest]
-    if word == "less":
-        return int(one < other)
-    return min(BOUND, max(-BOUND, one + other if word == "add" else one * other))
-
-
-def flat(lines, answers, turns, asked):
-    for line in lines:
-        if line[0] == "when":
-            side = 2 if number_by(line[1], answers, turns, asked) else 3
-            yield from flat(line[side], answers, turns, asked)
-        elif line[0] == "each":
-            for turn in range(8):
-                if turn < number_by(line[2], answers, turns, asked):
-                    yield from flat(line[3], answers, turns + ((line[1], turn),), asked)
-        else:
-            yield line, turns
-
-
-def row_by(lines, answers, turns, asked):
-    row = []
-    for line, around in flat(lines, answers, turns, asked):
-        def number(reckoning):
-            return number_by(reckoning, answers, around, asked)
-        key = None if line[1] is None else number(line[1])
-        head = (line[0], (key, keys_of(row).count(key)), line[2])
-        if line[0] == "give":
-            row.append(head + (number(line[3]), row_by(line[4], answers, around, asked)))
-            continue
-        head += (tuple((name, number(dict(line[3])[name])) for name in sorted(dict(line[3]))),)
-        if line[0] == "plain":
-            head += (tuple(hand[:3] + (tuple(change[:2] + (number(change[2]),) for change in hand[3]),)
-                           for hand in line[4]), row_by(line[5], answers, around, asked))
-        row.append(head)
-    return tuple(row)
-
-
-def drawn_by(whole, answers):
-    asked = set()
-    row = row_by(whole[3], answers, (), asked)
-    works = tuple((name, number_by(reckoning, answers, (), asked)) for name, reckoning in whole[2])
-    return (tuple((question, answers.get(question, 0)) for question in sorted(asked)), row, works)
 
 
 class Same(unittest.TestCase):
